@@ -1,0 +1,1 @@
+"""Sayings about points and walls, and the closed sheets that derive them."""
