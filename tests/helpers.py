@@ -1,6 +1,8 @@
 """What several test files need: a case that checks errors, and pictures to test with."""
 
+import functools
 import random
+import signal
 import unittest
 
 from sheetproofs.pictures import Picture, full_picture
@@ -37,6 +39,23 @@ class Case(unittest.TestCase):
         """Check that a result made of tuples is the one wanted."""
         self.is_tuples(found)
         self.assertEqual(found, wanted)
+
+
+def in_good_time(test):
+    """Make a test fail if it is not done within a minute; it needs a second or two."""
+    def too_long(number, frame):
+        raise AssertionError("this is not done in good time")
+
+    @functools.wraps(test)
+    def timed(*args):
+        before = signal.signal(signal.SIGALRM, too_long)
+        signal.alarm(60)
+        try:
+            return test(*args)
+        finally:
+            signal.alarm(0)
+            signal.signal(signal.SIGALRM, before)
+    return timed
 
 
 def a_random(seed):

@@ -31,7 +31,39 @@ FUNCTIONS = {
         "picture_text": "picture", "picture_of_text": "text", "ring_text": "corners",
         "ring_of_text": "picture text", "saying_text": "picture saying",
         "saying_of_text": "picture text"},
+    "bases": {
+        "tree_places": "picture", "other_places": "picture", "tour_of": "picture row",
+        "row_of": "picture tour", "basis_tours": "picture"},
+    "parting": {"rings_of": "picture tour", "rings_fault": "picture tour rings"},
+    "fields": {"is_prime": "number", "source_of": "field", "steps_of": "field number"},
+    "tables": {
+        "check_table": "field picture table", "worth_of": "field picture table tour",
+        "basis_worths": "field picture table", "holds_in": "field picture table saying",
+        "first_broken": "field picture table sayings", "table_product": "field picture one other",
+        "table_power": "field picture table exponent",
+        "scaled_table": "field picture table point_factors wall_factors",
+        "table_of": "field picture numbers"},
+    "figures": {
+        "same_figure": "field picture one other", "factors_fault": "field picture one other factors",
+        "unlike_fault": "field picture one other unlike", "plain_form": "field picture table",
+        "count_plain": "field picture", "plain_tables": "field picture",
+        "tables_alike": "field picture table"},
+    "forms": {
+        "check_width": "width", "check_rows": "width rows", "check_row": "width row",
+        "sum_rows": "width rows numbers", "form_of": "width rows", "rest_of": "width rows row",
+        "holds_row": "width rows row", "form_with": "width rows", "numbers_for": "width rows row"},
+    "turnings": {"elementary_rows": "width rows", "relations_of": "width rows"},
+    "lots": {
+        "plus_lot": "width one other", "meet_lot": "width one other",
+        "lot_where": "width rows conditions", "let_go": "width rows place",
+        "holds_lot": "width one other", "same_lot": "width one other",
+        "size_within": "width inner outer", "times_into": "width rows row",
+        "fold_in": "width rows row times"},
 }
+
+FIELD_METHODS = {
+    "__eq__": "other", "check_number": "number", "number_of": "whole", "plus": "one other",
+    "less": "one other", "times": "one other", "quotient": "one other", "power": "number exponent"}
 
 # For each file its classes: the parameters, and what must stand in the class itself.
 CLASSES = {
@@ -39,6 +71,14 @@ CLASSES = {
         "Picture": ("points walls pairs", {
             "__eq__": "other", "__len__": "", "pieces": None, "place_of": "pair", "is_open": "pair",
             "with_pair": "pair", "without_pair": "pair"})},
+    "fields": {
+        "RestField": ("prime", FIELD_METHODS), "FractionField": ("", FIELD_METHODS)},
+    "figures": {
+        "Factors": ("points walls", {"__eq__": "other"}),
+        "Unlike": ("place first second", {"__eq__": "other"})},
+    "forms": {"Turned": ("form turning", {"__eq__": "other"})},
+    "turnings": {"Elementary": ("numbers left right left_back right_back", {"__eq__": "other"})},
+    "lots": {"Fold": ("row numbers", {"__eq__": "other"})},
 }
 
 
