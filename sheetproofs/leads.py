@@ -35,10 +35,7 @@ def quotients_by(form, row):
 
 
 def bezout(one, other):
-    """Return the greatest common divisor of a number from 1 and another, and factors that sum to it."""
-    # Where one divides the other, its row is to stay as it is.
-    if other % one == 0:
-        return one, 1, 0
+    """Return the greatest common divisor of two numbers other than 0, and factors that sum to it."""
     divisor, rest = one, other
     first, next_first = 1, 0
     second, next_second = 0, 1

@@ -126,6 +126,6 @@ def fold_in(width, rows, row, times):
         return None
     numbers = [-number for number in rest[width:]]
     left = list(asked)
-    for number, item in zip(numbers, kept):
-        left = row_less(left, number, item)
+    for number, known in zip(numbers, kept):
+        left = row_less(left, number, known)
     return Fold(tuple([number // times for number in left]), tuple(numbers))

@@ -1,6 +1,6 @@
 """Sayings: a tour with a sign, 0 for the worth 1 and 1 for the worth -1."""
 
-from sheetproofs.errors import BadSaying, BadTour, BadWhole
+from sheetproofs.errors import BadSaying, BadTour
 from sheetproofs.numbers import is_whole
 from sheetproofs.sequences import is_sequence
 from sheetproofs.tours import check_tour, no_tour, tour_sum, tour_times
@@ -35,6 +35,5 @@ def saying_sum(picture, one, other):
 def saying_times(picture, saying, whole):
     """Return the saying multiplied by a whole number, the sign modulo 2."""
     tour, sign = check_saying(picture, saying)
-    if not is_whole(whole):
-        raise BadWhole()
-    return tour_times(picture, tour, whole), sign * whole % 2
+    multiplied = tour_times(picture, tour, whole)
+    return multiplied, sign * whole % 2

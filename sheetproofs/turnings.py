@@ -32,7 +32,7 @@ def _flipped(rows, width):
 
 def _product(rows, others):
     """Return the product of two tables, rows by columns."""
-    columns = _flipped(others, len(others[0])) if others else []
+    columns = _flipped(others, len(others[0]))
     return [[sum([one * other for one, other in zip(row, column)]) for column in columns]
             for row in rows]
 
