@@ -45,6 +45,14 @@ def other_places(picture):
     return tuple([place for place in range(len(picture)) if place not in tree])
 
 
+def placed_row(picture, numbers, filler):
+    """Return a row with these numbers at the other places and the filler at each tree pair."""
+    placed = [filler] * len(picture)
+    for place, number in zip(other_places(picture), numbers):
+        placed[place] = number
+    return tuple(placed)
+
+
 def basis_tours(picture):
     """Return the tours with 1 at one of the other places and 0 at the rest of them."""
     _, tours = _tree_and_basis(picture)

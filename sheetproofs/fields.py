@@ -6,7 +6,7 @@ from sheetproofs.numbers import common_divisor, is_whole, power_of
 MOST_PRIME = 20000
 
 
-def _least_factor(number):
+def least_factor(number):
     """Return the least prime that divides a whole number from 2."""
     factor = 2
     while factor * factor <= number:
@@ -18,7 +18,7 @@ def _least_factor(number):
 
 def is_prime(number):
     """Tell whether the thing is a prime from 2 to 20000."""
-    return is_whole(number, 2, MOST_PRIME) and _least_factor(number) == number
+    return is_whole(number, 2, MOST_PRIME) and least_factor(number) == number
 
 
 def source_of(field):
@@ -27,7 +27,7 @@ def source_of(field):
     shorter = []
     left = steps
     while left > 1:
-        factor = _least_factor(left)
+        factor = least_factor(left)
         shorter.append(steps // factor)
         left = left // factor
     number = 1

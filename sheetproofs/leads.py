@@ -16,6 +16,11 @@ def row_less(row, times, other):
     return [number - times * taken for number, taken in zip(row, other)]
 
 
+def sum_of_products(one, other):
+    """Return the sum of the products of two rows, place by place."""
+    return sum([number * factor for number, factor in zip(one, other)])
+
+
 def rest_by(form, row):
     """Take rows of the form off until a number from 0 to lead - 1 stands at the place of each lead."""
     for known in form:

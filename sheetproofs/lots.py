@@ -3,7 +3,7 @@
 from sheetproofs.errors import BadPlace, BadTimes, NotWithin
 from sheetproofs.forms import check_row, check_rows
 from sheetproofs.leads import (as_tuples, beside, form_of_rows, lead_of, rest_by, row_less,
-                               tails_behind, unit_rows)
+                               sum_of_products, tails_behind, unit_rows)
 from sheetproofs.numbers import common_divisor, is_whole
 
 
@@ -39,8 +39,7 @@ def lot_where(width, rows, conditions):
     """Return the form of the rows of the lot that each condition sums to 0."""
     kept = check_rows(width, rows)
     asked = form_of_rows(check_rows(width, conditions))
-    sums = [[sum([number * factor for number, factor in zip(row, condition)]) for condition in asked]
-            for row in kept]
+    sums = [[sum_of_products(row, condition) for condition in asked] for row in kept]
     return as_tuples(tails_behind(len(asked), form_of_rows(beside(sums, kept))))
 
 

@@ -12,6 +12,11 @@ def is_whole(thing, low=None, high=None):
     return high is None or thing <= high
 
 
+def is_sign(thing):
+    """Tell whether the thing is the integer 0 or 1."""
+    return is_whole(thing, 0, 1)
+
+
 def common_divisor(one, other):
     """Return the greatest common divisor, 0 for two zeros."""
     return gcd(one, other)

@@ -1,8 +1,8 @@
 """Rings that part a tour: they sum to it and nothing is struck."""
 
-from sheetproofs.errors import BadRing, TooMany
-from sheetproofs.rings import check_ring, ring_sides, ring_tour
-from sheetproofs.sequences import is_sequence
+from sheetproofs.errors import TooMany
+from sheetproofs.rings import is_ring, ring_sides, ring_tour
+from sheetproofs.sequences import wrong_index
 from sheetproofs.tours import check_tour, no_tour, tour_size, tour_sum
 
 MOST_SIZE = 2000
@@ -57,22 +57,10 @@ def rings_of(picture, tour):
     return tuple(rings)
 
 
-def _are_rings(picture, rings):
-    """Tell whether the thing is a sequence of rings of the picture."""
-    if not is_sequence(rings):
-        return False
-    try:
-        for ring in rings:
-            check_ring(picture, ring)
-    except BadRing:
-        return False
-    return True
-
-
 def rings_fault(picture, tour, rings):
     """Return None if the rings part the tour, else the first word that tells why not."""
     wanted = check_tour(picture, tour)
-    if not _are_rings(picture, rings):
+    if wrong_index(rings, None, lambda ring: is_ring(picture, ring)) is not None:
         return "ring"
     total = no_tour(picture)
     for ring in rings:

@@ -1,7 +1,7 @@
 """Rings of corners, points and walls in turn, and the tours they make."""
 
 from sheetproofs.errors import BadRing, BadSign
-from sheetproofs.numbers import is_whole
+from sheetproofs.numbers import is_sign, is_whole
 from sheetproofs.sequences import is_sequence
 
 FEWEST_CORNERS = 4
@@ -47,6 +47,20 @@ def check_ring(picture, corners):
     return tuple(corners)
 
 
+def is_ring(picture, thing):
+    """Tell whether the thing is a ring of the picture."""
+    try:
+        check_ring(picture, thing)
+    except BadRing:
+        return False
+    return True
+
+
+def is_ring_saying(picture, thing):
+    """Tell whether the thing is a couple of a ring of the picture and a sign."""
+    return is_sequence(thing, 2) and is_ring(picture, thing[0]) and is_sign(thing[1])
+
+
 def ring_tour(picture, corners):
     """Return the sum of the steps of all sides at their pairs."""
     tour = [0] * len(picture)
@@ -59,7 +73,7 @@ def ring_tour(picture, corners):
 def ring_saying(picture, corners, sign):
     """Return the saying of the tour of a ring with this sign."""
     tour = ring_tour(picture, corners)
-    if not is_whole(sign, 0, 1):
+    if not is_sign(sign):
         raise BadSign()
     return tour, sign
 

@@ -1,7 +1,7 @@
 """Sayings: a tour with a sign, 0 for the worth 1 and 1 for the worth -1."""
 
 from sheetproofs.errors import BadSaying, BadTour
-from sheetproofs.numbers import is_whole
+from sheetproofs.numbers import is_sign
 from sheetproofs.sequences import is_sequence
 from sheetproofs.tours import check_tour, no_tour, tour_sum, tour_times
 
@@ -15,9 +15,18 @@ def check_saying(picture, saying):
         numbers = check_tour(picture, tour)
     except BadTour:
         raise BadSaying("tour")
-    if not is_whole(sign, 0, 1):
+    if not is_sign(sign):
         raise BadSaying("sign")
     return numbers, sign
+
+
+def is_saying(picture, thing):
+    """Tell whether the thing is a saying of the picture."""
+    try:
+        check_saying(picture, thing)
+    except BadSaying:
+        return False
+    return True
 
 
 def minus_saying(picture):

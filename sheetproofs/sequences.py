@@ -11,7 +11,10 @@ def is_sequence(thing, length=None):
 
 
 def wrong_index(thing, length, is_good):
-    """Return -1 for no sequence of this length, else the index of the first wrong item, or None."""
+    """Return -1 for no sequence of this length, else the index of the first wrong item, or None.
+
+    Where the length is None, any length is let.
+    """
     if not is_sequence(thing, length):
         return -1
     for index, item in enumerate(thing):

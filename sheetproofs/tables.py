@@ -1,6 +1,6 @@
 """Tables: a number of a field, not zero, for each open pair, and the worths of tours in them."""
 
-from sheetproofs.bases import basis_tours, other_places
+from sheetproofs.bases import basis_tours, other_places, placed_row
 from sheetproofs.errors import BadExponent, BadFactors, BadNumber, BadNumbers, BadTable
 from sheetproofs.numbers import is_whole
 from sheetproofs.sayings import check_saying
@@ -107,11 +107,7 @@ def scaled_table(field, picture, table, point_factors, wall_factors):
 
 def table_of(field, picture, numbers):
     """Return the table with these numbers at the other places and one at each tree pair."""
-    places = other_places(picture)
-    index = _wrong_factor(field, numbers, len(places))
+    index = _wrong_factor(field, numbers, len(other_places(picture)))
     if index is not None:
         raise BadNumbers(index)
-    table = [field.one] * len(picture)
-    for place, number in zip(places, numbers):
-        table[place] = number
-    return tuple(table)
+    return placed_row(picture, numbers, field.one)

@@ -1,7 +1,8 @@
 """The elementary numbers of rows, with the tables that lead to them, and relations of rows."""
 
 from sheetproofs.forms import check_rows, marked_form
-from sheetproofs.leads import as_tuples, beside, quotients_by, tails_behind, unit_rows
+from sheetproofs.leads import (as_tuples, beside, quotients_by, sum_of_products, tails_behind,
+                               unit_rows)
 
 
 class Elementary:
@@ -33,8 +34,7 @@ def _flipped(rows, width):
 def _product(rows, others):
     """Return the product of two tables, rows by columns."""
     columns = _flipped(others, len(others[0]))
-    return [[sum([one * other for one, other in zip(row, column)]) for column in columns]
-            for row in rows]
+    return [[sum_of_products(row, column) for column in columns] for row in rows]
 
 
 def _formed(rows, width):

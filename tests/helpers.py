@@ -40,6 +40,21 @@ class Case(unittest.TestCase):
         self.is_tuples(found)
         self.assertEqual(found, wanted)
 
+    def check_result(self, kind, names):
+        """Check that a result keeps what it is given, and is equal if all its attributes are."""
+        names = names.split()
+        values = [[at] for at in range(len(names))]
+        result = kind(*values)
+        for name, value in zip(names, values):
+            self.assertIs(getattr(result, name), value)
+        self.assertTrue(result == kind(*[[at] for at in range(len(names))]))
+        for at in range(len(names)):
+            other = kind(*[(k,) if k == at else [k] for k in range(len(names))])
+            self.assertFalse(result == other)
+            self.assertTrue(result != other)
+        for other in (tuple(values), values, None, object()):
+            self.assertFalse(result == other)
+
 
 def in_good_time(test):
     """Make a test fail if it is not done within a minute; it needs a second or two."""

@@ -23,7 +23,7 @@ METHODS = """append clear copy count endswith extend find get index insert isaln
 BARRED = (ast.Global, ast.AsyncFunctionDef, ast.AsyncFor, ast.AsyncWith, ast.Await, ast.Set, ast.SetComp,
           ast.GeneratorExp, ast.Div, ast.Pow, ast.MatMult, ast.Starred, ast.Match, ast.With, ast.NamedExpr,
           ast.Import, ast.AnnAssign, ast.Nonlocal, ast.TryStar)
-SPECIAL = ("__init__", "__eq__", "__len__", "__iter__")
+SPECIAL = ("__init__", "__eq__", "__len__", "__iter__", "__call__")
 BAD_NAMES = """register mro elements open input law version_info with_traceback add_note attrgetter breakpoint
     builtins compile copyright credits delattr dir eval exec exit gc getattr globals hasattr help id
     importlib license locals methodcaller os quit setattr super type vars sys _cold _tuplegetter _outside
@@ -194,6 +194,7 @@ class TestNames(unittest.TestCase):
                 needs[name].append(f"{file}.py")
                 told = ast.parse((FOLDER / f"{file}.py").read_text())
                 defined = [part.name for part in told.body if isinstance(part, (ast.FunctionDef, ast.ClassDef))]
+                defined += [part.targets[0].id for part in told.body if isinstance(part, ast.Assign)]
                 for alias in node.names:
                     self.assertIn(alias.name, defined, name)
         while needs:
