@@ -11,8 +11,8 @@ from sheetproofs.fields import RestField
 from sheetproofs.lots import fold_in
 from sheetproofs.pictures import full_picture
 from sheetproofs.turnings import elementary_rows
-from tests.bookshelf import (BARE, PRIMES, R, SQUARE, TREE, added_up, primes_to, row_at, some_books,
-                             square_book, times, word_modulo)
+from tests.bookshelf import (APART, BARE, PRIMES, R, SQUARE, TREE, WIDE, added_up, primes_to, row_at,
+                             some_books, square_book, times, tour_with, word_modulo)
 from tests.helpers import NO_SEQUENCES, NO_WHOLES, Case, a_random, in_good_time, some_tours
 from tests.test_sayings import WRONG as WRONG_SAYINGS
 from tests.test_tables import worth
@@ -85,6 +85,25 @@ class TestFollowsModulo(PrimeCase):
                 self.assertEqual(word, word_modulo(book, saying, prime))
                 seen[word] += 1
         self.assertGreater(min(seen.values()), 20)
+
+    def test_premises_and_saying_are_apart_in_several_ways(self):
+        # The minus saying and the saying fail at several places here, at one together or at unlike ones.
+        for picture, premises, asked, sign in (
+                (WIDE, (((2, 3), 1), ((4, 4), 0)), (1, 0), 1), (WIDE, (((0, 4), 0), ((3, 4), 1)), (2, 3), 1),
+                (WIDE, (((2, 1), 1), ((2, 3), 1)), (1, 1), 0), (APART, (((0, 3), 1), ((4, 1), 1)), (1, 1), 0),
+                (APART, (((3, 0), 1), ((0, 4), 0)), (1, 1), 0), (APART, (((0, 4), 0), ((3, 3), 1)), (3, 0), 0)):
+            book = Book(picture, [(tour_with(picture, row), told) for row, told in premises])
+            for prime in (3, 5, 7, 13):
+                saying = (tour_with(picture, asked), sign)
+                self.assertEqual(self.check_answer(book, saying, prime), word_modulo(book, saying, prime))
+        chances = a_random(235)
+        for picture in (WIDE, APART):
+            for _ in range(150):
+                book = Book(picture, [(tour_with(picture, [chances.randint(0, 4), chances.randint(0, 4)]),
+                                       chances.randint(0, 1)) for _ in range(2)])
+                saying = (tour_with(picture, [chances.randint(0, 3), chances.randint(0, 3)]), chances.randint(0, 1))
+                for prime in (3, 5, 7):
+                    self.assertEqual(self.check_answer(book, saying, prime), word_modulo(book, saying, prime))
 
     def test_errors_in_their_order(self):
         book = square_book((3, 0))
@@ -185,6 +204,14 @@ class TestPrimeRule(PrimeCase):
         for prime in (3, 5, 7, 11, 13, 17):
             self.assertEqual(self.check_answer(Book(SQUARE, ()), (times(12), 0), prime), word_at(rule, prime))
         self.exactly(prime_rule(Book(SQUARE, ()), (times(10 ** 250), 1)).span, 10 ** 250)
+
+    def test_no_table_comes_before_the_span(self):
+        book, saying = Book(APART, [(tour_with(APART, (2, 0)), 1)]), (tour_with(APART, (0, 4)), 0)
+        rule = prime_rule(book, saying)
+        self.assertTrue(rule == PrimeRule(4, ((2, "none"), (4, "follows")), 4))
+        for prime, word in ((3, "none"), (5, "follows"), (7, "none"), (11, "none"), (13, "refuted")):
+            self.assertEqual(word_at(rule, prime), word)
+            self.assertEqual(self.check_answer(book, saying, prime), word)
 
     def check_words(self, book, saying, rule):
         """Check period, words and span by what they mean."""

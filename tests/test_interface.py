@@ -59,6 +59,47 @@ FUNCTIONS = {
         "holds_lot": "width one other", "same_lot": "width one other",
         "size_within": "width inner outer", "times_into": "width rows row",
         "fold_in": "width rows row times"},
+    "readings": {
+        "reading_apart": "width rows row", "reading_modulo": "width rows row modulus",
+        "count_readings": "width rows modulus"},
+    "books": {
+        "lifted_row": "picture saying", "lowered_row": "picture row", "book_rows": "book",
+        "premise_sum": "book numbers", "derivation_of": "book saying",
+        "derivation_fault": "book saying numbers", "least_often": "book saying"},
+    "booktexts": {"book_text": "book", "book_of_text": "text"},
+    "everyprime": {
+        "follows_modulo": "book saying prime", "fold_fault": "book saying often part numbers",
+        "refutal_fault": "book saying prime table", "prime_rule": "book saying", "word_at": "rule prime",
+        "primes_of_word": "rule word most"},
+    "follows": {"follows_everywhere": "book saying"},
+    "overfractions": {
+        "follows_fractions": "book saying", "kept_fault": "book saying signs exponents"},
+    "evens": {
+        "follows_even": "book saying", "even_fault": "book saying twos numbers",
+        "turn_fault": "book saying modulus row"},
+    "sizes": {"prime_of_size": "size", "sizes_between": "low high"},
+    "splits": {"elementary_of": "book", "last_twos": "book"},
+    "counts": {
+        "count_figures": "book size", "count_tables": "book size", "has_table": "book size",
+        "steps_for": "book size", "steps_fault": "book size steps", "list_figures": "book prime",
+        "figures_over_fractions": "book"},
+    "spreads": {"spread_of": "book tour size"},
+    "formulas": {
+        "formula_of": "book", "unlike_prime": "one other", "least_prime_with": "book",
+        "sizes_with": "book low high"},
+    "sheets": {
+        "sheet_fault": "picture polygons signs couples", "rings_alike": "one other",
+        "sheet_sayings": "sheet", "sheet_sign": "sheet", "last_sign": "sheet place",
+        "turned_sheet": "sheet", "beside_sheet": "one other"},
+    "fans": {
+        "sheet_pieces": "sheet", "sheet_fans": "sheet", "fan_counts": "sheet", "handles_of": "sheet",
+        "piece_sheet": "sheet number", "odd_pieces": "sheet"},
+    "gluing": {
+        "glue_in_order": "picture polygons signs", "count_gluings": "picture polygons",
+        "all_gluings": "picture polygons signs", "swapped_sheet": "sheet one other",
+        "fewest_handles": "picture polygons signs"},
+    "sheetmakers": {
+        "sheet_for": "picture premises numbers corners sign", "numbers_from": "sheet place premises"},
 }
 
 FIELD_METHODS = {
@@ -79,6 +120,30 @@ CLASSES = {
     "forms": {"Turned": ("form turning", {"__eq__": "other"})},
     "turnings": {"Elementary": ("numbers left right left_back right_back", {"__eq__": "other"})},
     "lots": {"Fold": ("row numbers", {"__eq__": "other"})},
+    "readings": {"Reading": ("modulus numbers", {"__eq__": "other", "__call__": "row"})},
+    "books": {
+        "Book": ("picture premises", {
+            "__eq__": "other", "__len__": "", "__iter__": "", "lot": None, "with_premise": "saying",
+            "without_premise": "place", "from_rings": "picture rings"})},
+    "everyprime": {
+        "Refutal": ("prime table", {"__eq__": "other"}),
+        "NoTable": ("part numbers", {"__eq__": "other"}),
+        "Folded": ("part numbers", {"__eq__": "other"}),
+        "PrimeRule": ("period words span", {"__eq__": "other"})},
+    "follows": {
+        "Contrary": ("numbers", {"__eq__": "other"}), "Derivation": ("numbers", {"__eq__": "other"})},
+    "overfractions": {
+        "FractionDerivation": ("part numbers often sums", {"__eq__": "other"}),
+        "KeptTable": ("signs exponents", {"__eq__": "other"})},
+    "evens": {
+        "EvenDerivation": ("twos numbers", {"__eq__": "other"}),
+        "TurnTable": ("modulus row", {"__eq__": "other"})},
+    "spreads": {"Spread": ("many each sign", {"__eq__": "other"})},
+    "formulas": {
+        "Formula": ("divisor constant free numbers", {"__eq__": "other", "many_at": "size"})},
+    "sheets": {
+        "Sheet": ("picture polygons signs couples", {
+            "__eq__": "other", "__len__": "", "mate_of": "side", "side_pair": "side"})},
 }
 
 
@@ -122,6 +187,8 @@ class TestInterface(unittest.TestCase):
             found = vars(made)[method]
             if parameters is None:
                 self.assertIsInstance(found, property)
+            elif isinstance(found, staticmethod):
+                self.assertEqual(parameters_of(found.__func__), parameters, method)
             else:
                 self.assertEqual(parameters_of(found), f"self {parameters}".strip(), method)
 
