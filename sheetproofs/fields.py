@@ -2,6 +2,7 @@
 
 from sheetproofs.errors import BadNumber, BadPrime, ByZero
 from sheetproofs.numbers import common_divisor, is_whole, power_of
+from sheetproofs.sequences import wrong_index
 
 MOST_PRIME = 20000
 
@@ -19,6 +20,20 @@ def least_factor(number):
 def is_prime(number):
     """Tell whether the thing is a prime from 2 to 20000."""
     return is_whole(number, 2, MOST_PRIME) and least_factor(number) == number
+
+
+def is_number(field, thing):
+    """Tell whether the thing is a number of the field."""
+    try:
+        field.check_number(thing)
+    except BadNumber:
+        return False
+    return True
+
+
+def is_number_row(field, thing, length):
+    """Tell whether the thing is a sequence of this many numbers of the field."""
+    return wrong_index(thing, length, lambda item: is_number(field, item)) is None
 
 
 def source_of(field):

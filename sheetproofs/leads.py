@@ -1,4 +1,7 @@
-"""Rows of whole numbers brought to their form, without checks; the form is told in point 4.3."""
+"""Rows, most of them of whole numbers, brought to their form and put together, without checks.
+
+The form is told in point 4.3.
+"""
 
 
 def lead_of(row):
@@ -107,6 +110,11 @@ def unit_rows(many):
 def beside(rows, others):
     """Return the rows, each with the other row of the same index behind it."""
     return [list(row) + list(other) for row, other in zip(rows, others)]
+
+
+def columns_of(width, rows):
+    """Return the columns of rows of this width as rows."""
+    return [[row[place] for row in rows] for place in range(width)]
 
 
 def tails_behind(width, rows):

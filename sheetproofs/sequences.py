@@ -10,6 +10,11 @@ def is_sequence(thing, length=None):
     return length is None or len(thing) == length
 
 
+def has_between(thing, low, high):
+    """Tell whether the thing is a list or a tuple of low to high items."""
+    return is_sequence(thing) and low <= len(thing) and len(thing) <= high
+
+
 def wrong_index(thing, length, is_good):
     """Return -1 for no sequence of this length, else the index of the first wrong item, or None.
 

@@ -1,7 +1,8 @@
 """Tables: a number of a field, not zero, for each open pair, and the worths of tours in them."""
 
 from sheetproofs.bases import basis_tours, other_places, placed_row
-from sheetproofs.errors import BadExponent, BadFactors, BadNumber, BadNumbers, BadTable
+from sheetproofs.errors import BadExponent, BadFactors, BadNumbers, BadTable
+from sheetproofs.fields import is_number
 from sheetproofs.numbers import is_whole
 from sheetproofs.sayings import check_saying
 from sheetproofs.sequences import wrong_index
@@ -12,10 +13,7 @@ MOST_EXPONENT = 1000
 
 def _is_factor(field, thing):
     """Tell whether the thing is a number of the field other than zero."""
-    try:
-        return field.check_number(thing) != field.zero
-    except BadNumber:
-        return False
+    return is_number(field, thing) and thing != field.zero
 
 
 def _wrong_factor(field, thing, length):

@@ -1,8 +1,8 @@
 """The elementary numbers of rows, with the tables that lead to them, and relations of rows."""
 
 from sheetproofs.forms import check_rows, marked_form
-from sheetproofs.leads import (as_tuples, beside, quotients_by, sum_of_products, tails_behind,
-                               unit_rows)
+from sheetproofs.leads import (as_tuples, beside, columns_of, quotients_by, sum_of_products,
+                               tails_behind, unit_rows)
 
 
 class Elementary:
@@ -26,14 +26,9 @@ def relations_of(width, rows):
     return as_tuples(tails_behind(width, marked_form(check_rows(width, rows))))
 
 
-def _flipped(rows, width):
-    """Return the columns of the rows as rows."""
-    return [[row[place] for row in rows] for place in range(width)]
-
-
 def _product(rows, others):
     """Return the product of two tables, rows by columns."""
-    columns = _flipped(others, len(others[0]))
+    columns = columns_of(len(others[0]), others)
     return [[sum_of_products(row, column) for column in columns] for row in rows]
 
 
@@ -78,8 +73,8 @@ class Turning:
         heads, self.left, self.left_back = _formed(rows, width)
         top = [head for head in heads if any(head)]
         self.rank = len(top)
-        sides, self.right, self.right_back = _formed(_flipped(top, width), self.rank)
-        self.core = _flipped(sides[:self.rank], self.rank)
+        sides, self.right, self.right_back = _formed(columns_of(width, top), self.rank)
+        self.core = columns_of(self.rank, sides[:self.rank])
 
     def turn_rows(self):
         """Bring the rows of the core to their form."""
@@ -88,8 +83,8 @@ class Turning:
 
     def turn_columns(self):
         """Bring the columns of the core to their form."""
-        sides, turns, backs = _formed(_flipped(self.core, self.rank), self.rank)
-        self.core = _flipped(sides, self.rank)
+        sides, turns, backs = _formed(columns_of(self.rank, self.core), self.rank)
+        self.core = columns_of(self.rank, sides)
         self.right, self.right_back = _followed(turns, backs, self.right, self.right_back)
 
     def make_diagonal(self):
@@ -104,7 +99,7 @@ class Turning:
         turns[place][place + 1] = 1
         backs = unit_rows(self.rank)
         backs[place][place + 1] = -1
-        self.core = _product(self.core, _flipped(turns, self.rank))
+        self.core = _product(self.core, columns_of(self.rank, turns))
         self.right, self.right_back = _followed(turns, backs, self.right, self.right_back)
 
     def settle(self):
@@ -125,5 +120,5 @@ def elementary_rows(width, rows):
     turning.settle()
     numbers = [turning.core[at][at] for at in range(turning.rank)]
     return Elementary(tuple(numbers + [0] * (width - turning.rank)),
-                      as_tuples(turning.left), as_tuples(_flipped(turning.right, width)),
-                      as_tuples(turning.left_back), as_tuples(_flipped(turning.right_back, width)))
+                      as_tuples(turning.left), as_tuples(columns_of(width, turning.right)),
+                      as_tuples(turning.left_back), as_tuples(columns_of(width, turning.right_back)))

@@ -100,6 +100,23 @@ FUNCTIONS = {
         "fewest_handles": "picture polygons signs"},
     "sheetmakers": {
         "sheet_for": "picture premises numbers corners sign", "numbers_from": "sheet place premises"},
+    "shortenings": {
+        "undone_sides": "sheet one other", "struck_sheet": "sheet one other",
+        "shortened_sheet": "sheet place", "pasted_sheet": "one place other at"},
+    "ranks": {
+        "rank_of_rows": "field rows", "rows_unbound": "field rows", "weights_for": "field rows row",
+        "rows_product": "field rows others", "undoing_rows": "field rows"},
+    "spaces": {
+        "number_at": "space point wall", "full_table_of": "space", "picture_of": "space",
+        "table_of_space": "space"},
+    "meets": {"line_meets": "space p q u v", "tiles_that_hold": "space", "tile_book": "space"},
+    "ringmeets": {
+        "side_points": "space corners", "wall_through": "space corners", "common_point": "space corners"},
+    "leastspace": {
+        "check_full": "field full", "full_of": "field picture table", "least_width": "field full",
+        "least_space": "field full", "unit_space": "field full"},
+    "moves": {"moved_space": "space rows", "move_between": "one other"},
+    "inspaces": {"follows_in_spaces": "book saying"},
 }
 
 FIELD_METHODS = {
@@ -144,6 +161,13 @@ CLASSES = {
     "sheets": {
         "Sheet": ("picture polygons signs couples", {
             "__eq__": "other", "__len__": "", "mate_of": "side", "side_pair": "side"})},
+    "shortenings": {"Shorter": ("sheet places", {"__eq__": "other"})},
+    "spaces": {"Space": ("field points walls", {"__eq__": "other"})},
+    "meets": {"Meet": ("first second row", {"__eq__": "other"})},
+    "ringmeets": {
+        "Through": ("wall", {"__eq__": "other"}), "Spanned": ("weights", {"__eq__": "other"}),
+        "Common": ("weights row", {"__eq__": "other"})},
+    "inspaces": {"AgainstSpace": ("prime space", {"__eq__": "other"})},
 }
 
 
