@@ -3,6 +3,7 @@
 from sheetproofs.bases import basis_tours, row_of, tour_of
 from sheetproofs.errors import BadBook, BadNumbers, BadPlace, BadRow
 from sheetproofs.forms import form_of, numbers_for
+from sheetproofs.leads import rest_by
 from sheetproofs.lots import fold_in, times_into
 from sheetproofs.numbers import is_whole
 from sheetproofs.rings import is_ring_saying, ring_saying
@@ -109,6 +110,11 @@ def premise_sum(book, numbers):
     for number, premise in zip(numbers, book.premises):
         total = saying_sum(picture, total, saying_times(picture, premise, number))
     return total
+
+
+def derives(book, saying):
+    """Tell whether the book derives the saying."""
+    return not any(rest_by(book.lot, lifted_row(book.picture, saying)))
 
 
 def derivation_of(book, saying):

@@ -1,8 +1,8 @@
 """Figures: tables that become one another when points and walls are given factors."""
 
 from sheetproofs.bases import basis_tours, other_places, tree_places
-from sheetproofs.errors import BadFactors, BadNumber, TooMany
-from sheetproofs.fields import RestField
+from sheetproofs.errors import BadFactors, TooMany
+from sheetproofs.fields import RestField, is_number
 from sheetproofs.numbers import is_whole, power_of
 from sheetproofs.tables import basis_worths, check_table, scaled_table, table_of
 
@@ -84,12 +84,9 @@ def factors_fault(field, picture, one, other, factors):
     return None if scaled == second else "pair"
 
 
-def _is_number(field, thing, number):
+def _is_this(field, thing, number):
     """Tell whether the thing is this number of the field; a bool is none, though it may be equal."""
-    try:
-        return field.check_number(thing) == number
-    except BadNumber:
-        return False
+    return is_number(field, thing) and thing == number
 
 
 def unlike_fault(field, picture, one, other, unlike):
@@ -101,9 +98,9 @@ def unlike_fault(field, picture, one, other, unlike):
     place = unlike.place
     if not is_whole(place, 0, len(worths) - 1):
         return "place"
-    if not _is_number(field, unlike.first, worths[place]):
+    if not _is_this(field, unlike.first, worths[place]):
         return "worths"
-    if not _is_number(field, unlike.second, others[place]):
+    if not _is_this(field, unlike.second, others[place]):
         return "worths"
     return "alike" if worths[place] == others[place] else None
 

@@ -94,11 +94,16 @@ def _tidied(rows):
     return form
 
 
+def form_with_row(form, row):
+    """Return the form of the lot of a form and one more row."""
+    return _tidied(_row_put_to(form, row))
+
+
 def form_of_rows(rows):
     """Return the form of the lot of the rows as a list of rows."""
     form = []
     for row in rows:
-        form = _tidied(_row_put_to(form, row))
+        form = form_with_row(form, row)
     return form
 
 

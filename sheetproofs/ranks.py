@@ -78,16 +78,28 @@ def rows_unbound(field, rows):
     return rank_of_rows(field, rows) == len(rows)
 
 
-def weights_for(field, rows, row):
-    """Return weights with which the sum of the rows is the row, or None."""
+def equations_for(field, rows, row):
+    """Return equations for weights with which the sum of the rows is the row, and their leads, or None.
+
+    An equation has a number for each weight and, at its end, what these times the weights sum to. Each
+    lead has one in its own equation and zero in the others.
+    """
     many = len(rows)
     # A column of the rows and the row, read as a row, tells what the weights do at one place.
     reduced, leads = reduced_rows(field, columns_of(len(row), list(rows) + [row]), many)
     if any([told[many] != field.zero for told in reduced[len(leads):]]):
         return None
-    weights = [field.zero] * many
-    for told, lead in zip(reduced, leads):
-        weights[lead] = told[many]
+    return reduced[:len(leads)], leads
+
+
+def weights_for(field, rows, row):
+    """Return weights with which the sum of the rows is the row, or None."""
+    found = equations_for(field, rows, row)
+    if found is None:
+        return None
+    weights = [field.zero] * len(rows)
+    for equation, lead in zip(found[0], found[1]):
+        weights[lead] = equation[-1]
     return tuple(weights)
 
 

@@ -117,6 +117,23 @@ FUNCTIONS = {
         "least_space": "field full", "unit_space": "field full"},
     "moves": {"moved_space": "space rows", "move_between": "one other"},
     "inspaces": {"follows_in_spaces": "book saying"},
+    "joining": {
+        "whole_picture": "joining", "shared_pairs": "joining", "first_saying": "joining saying",
+        "second_saying": "joining saying", "back_to_first": "joining saying",
+        "back_to_second": "joining saying", "whole_book": "joining one_book other_book"},
+    "across": {
+        "passed_on": "joining other_book", "told_across": "joining one_book other_book",
+        "forget_pairs": "book pairs", "bridge_of": "joining one_book other_book saying",
+        "bridge_fault": "joining one_book other_book saying bridge"},
+    "jointables": {"join_tables": "joining field first second"},
+    "leastchoices": {
+        "needed_places": "book saying", "least_choices": "book saying", "least_breaks": "book saying"},
+    "shares": {
+        "tell_of": "picture telling tour", "cheapest_shares": "book prices saying",
+        "shares_fault": "book prices saying found", "cheapest_whole": "book prices saying most"},
+    "edits": {"apply_edit": "book edit", "apply_edits": "book edits"},
+    "mends": {
+        "goal_met": "book goal", "find_mends": "book goal pool", "mend_fault": "book goal pool choice"},
 }
 
 FIELD_METHODS = {
@@ -168,6 +185,18 @@ CLASSES = {
         "Through": ("wall", {"__eq__": "other"}), "Spanned": ("weights", {"__eq__": "other"}),
         "Common": ("weights row", {"__eq__": "other"})},
     "inspaces": {"AgainstSpace": ("prime space", {"__eq__": "other"})},
+    "joining": {"Joining": ("one other points walls", {"__eq__": "other"})},
+    "across": {"Bridge": ("middle first second", {"__eq__": "other"})},
+    "jointables": {
+        "Joined": ("table points walls", {"__eq__": "other"}),
+        "Parted": ("numbers one_worth other_worth", {"__eq__": "other"})},
+    "shares": {
+        "Shares": ("price parts telling", {"__eq__": "other"}), "NoShares": ("telling", {"__eq__": "other"}),
+        "Whole": ("price numbers", {"__eq__": "other"})},
+    "bench": {
+        "Bench": ("book", {
+            "current": None, "log": None, "make": "edit", "run": "edits", "take_back": "",
+            "trial": "edits ask", "books": ""})},
 }
 
 

@@ -158,7 +158,11 @@ class TestForms(unittest.TestCase):
                 if isinstance(node, ast.ExceptHandler):
                     self.assertIn(node.type.id, own, (name, node.lineno))
                 if isinstance(node, ast.Try):
-                    self.assertEqual(node.finalbody, [], name)
+                    # In a finally only a name is given to an attribute.
+                    for last in node.finalbody:
+                        self.assertIsInstance(last, ast.Assign, (name, last.lineno))
+                        self.assertIsInstance(last.targets[0], ast.Attribute, (name, last.lineno))
+                        self.assertIsInstance(last.value, ast.Name, (name, last.lineno))
 
     def test_decorators_and_methods(self):
         for name, _, tree in sources():

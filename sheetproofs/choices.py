@@ -1,0 +1,32 @@
+"""Choices, which are ascending tuples of places, and the search for the least good ones."""
+
+
+def has_part(choice, others):
+    """Tell whether one of the other choices has no place that is not in the choice."""
+    return any([all([place in choice for place in other]) for other in others])
+
+
+def least_good_choices(many, first, step, is_good):
+    """Return the least good choices out of so many places, by size and then in their order.
+
+    A choice is judged by its state: first for (), else what step makes of the state of the choice without
+    its last place and of this place. Behind the state None no choice is good.
+    """
+    least = []
+    level = [((), first)]
+    while level:
+        longer = []
+        for choice, state in level:
+            # All least choices of fewer places are known here.
+            if has_part(choice, least):
+                continue
+            if is_good(state):
+                least.append(choice)
+                continue
+            start = choice[-1] + 1 if choice else 0
+            for place in range(start, many):
+                reached = step(state, place)
+                if reached is not None:
+                    longer.append((choice + (place,), reached))
+        level = longer
+    return tuple(least)
