@@ -8,7 +8,7 @@ from sheetproofs.lots import fold_in, times_into
 from sheetproofs.numbers import is_whole
 from sheetproofs.rings import is_ring_saying, ring_saying
 from sheetproofs.sayings import check_saying, is_saying, saying_sum, saying_times
-from sheetproofs.sequences import is_sequence, is_whole_row, wrong_index
+from sheetproofs.sequences import has_between, is_whole_row, wrong_index
 from sheetproofs.tours import no_tour
 
 MOST_PREMISES = 10
@@ -52,7 +52,7 @@ class Book:
     """A picture and a tuple of its sayings, the premises."""
 
     def __init__(self, picture, premises):
-        if not is_sequence(premises) or len(premises) > MOST_PREMISES:
+        if not has_between(premises, 0, MOST_PREMISES):
             raise BadBook(-1)
         index = wrong_index(premises, None, lambda saying: is_saying(picture, saying))
         if index is not None:
@@ -92,7 +92,7 @@ class Book:
     @staticmethod
     def from_rings(picture, rings):
         """Return the book of the sayings of rings with signs."""
-        if not is_sequence(rings) or len(rings) > MOST_PREMISES:
+        if not has_between(rings, 0, MOST_PREMISES):
             raise BadBook(-1)
         index = wrong_index(rings, None, lambda thing: is_ring_saying(picture, thing))
         if index is not None:

@@ -3,7 +3,7 @@
 from sheetproofs.errors import BadNumbers, BadRow, BadRows, BadWidth
 from sheetproofs.leads import as_tuples, beside, form_of_rows, lead_of, rest_by, unit_rows
 from sheetproofs.numbers import is_whole
-from sheetproofs.sequences import is_sequence, is_whole_row, wrong_index
+from sheetproofs.sequences import has_between, is_whole_row, wrong_index
 
 MOST_WIDTH = 40
 MOST_ROWS = 40
@@ -31,7 +31,7 @@ def check_width(width):
 def check_rows(width, rows):
     """Return the rows as a tuple of tuples, or raise BadRows with the index of what is wrong."""
     check_width(width)
-    if not is_sequence(rows) or len(rows) > MOST_ROWS:
+    if not has_between(rows, 0, MOST_ROWS):
         raise BadRows(-1)
     index = wrong_index(rows, len(rows), lambda row: is_whole_row(row, width))
     if index is not None:

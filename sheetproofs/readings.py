@@ -5,7 +5,7 @@ from sheetproofs.folds import first_unfolded, turned_couples
 from sheetproofs.forms import check_row, check_rows
 from sheetproofs.leads import sum_of_products
 from sheetproofs.numbers import common_divisor, is_whole
-from sheetproofs.sequences import is_sequence, is_whole_row, wrong_index
+from sheetproofs.sequences import has_between, is_whole_row, wrong_index
 from sheetproofs.turnings import elementary_rows
 
 MOST_NUMBERS = 40
@@ -17,7 +17,7 @@ class Reading:
     def __init__(self, modulus, numbers):
         if not is_whole(modulus, 2):
             raise BadReading("modulus")
-        if not is_sequence(numbers) or len(numbers) > MOST_NUMBERS:
+        if not has_between(numbers, 0, MOST_NUMBERS):
             raise BadReading("numbers")
         if wrong_index(numbers, None, lambda number: is_whole(number, 0, modulus - 1)) is not None:
             raise BadReading("numbers")

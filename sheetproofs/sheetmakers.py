@@ -4,7 +4,7 @@ from sheetproofs.errors import BadNumbers, BadPremise, BadSign, NotPremise, NotS
 from sheetproofs.gluing import glue_in_order
 from sheetproofs.numbers import is_sign, is_whole
 from sheetproofs.rings import check_ring, is_ring_saying, turned_ring
-from sheetproofs.sequences import is_sequence, wrong_index
+from sheetproofs.sequences import has_between, wrong_index
 from sheetproofs.sheets import MOST_POLYGONS, check_place, rings_alike, sheet_sign
 
 MOST_SAYINGS = 16
@@ -12,7 +12,7 @@ MOST_SAYINGS = 16
 
 def _check_premises(picture, premises):
     """Raise BadPremise for anything but a sequence of up to 16 ring sayings."""
-    if not is_sequence(premises) or len(premises) > MOST_SAYINGS:
+    if not has_between(premises, 0, MOST_SAYINGS):
         raise BadPremise(-1)
     index = wrong_index(premises, None, lambda thing: is_ring_saying(picture, thing))
     if index is not None:

@@ -4,14 +4,14 @@ from sheetproofs.errors import BadPlace, BadSheet, BadSide, OtherPicture, TooMan
 from sheetproofs.leads import as_tuples
 from sheetproofs.numbers import is_sign, is_whole
 from sheetproofs.rings import is_ring, ring_sides, ring_tour, turned_ring
-from sheetproofs.sequences import is_sequence, wrong_index
+from sheetproofs.sequences import has_between, is_sequence, wrong_index
 
 MOST_POLYGONS = 60
 
 
 def polygons_fault(picture, polygons):
     """Return None for a sequence of rings, else the word "polygon" and its place."""
-    if not is_sequence(polygons) or len(polygons) > MOST_POLYGONS:
+    if not has_between(polygons, 0, MOST_POLYGONS):
         return "polygon", -1
     index = wrong_index(polygons, None, lambda ring: is_ring(picture, ring))
     return None if index is None else ("polygon", index)

@@ -57,8 +57,7 @@ def number_at(space, point, wall):
 
 def full_table_of(space):
     """Return for each point the tuple of its numbers with all walls."""
-    walls = range(len(space.walls))
-    return tuple([tuple([number_at(space, point, wall) for wall in walls])
+    return tuple([tuple([number_at(space, point, wall) for wall in range(len(space.walls))])
                   for point in range(len(space.points))])
 
 
